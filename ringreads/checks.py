@@ -1,0 +1,94 @@
+"""What the parameters of the functions must be, and the errors if they are not."""
+
+from ringreads.errors import InvalidMark, InvalidMarks, InvalidNumber, InvalidOrder, InvalidRecords
+
+MOST_MARKS = 10 ** 30
+MOST_LENGTH = 10 ** 31
+MOST_RECORDS = 30
+
+
+def is_integer(value):
+    """Whether any value is an integer, which a bool is not."""
+    return isinstance(value, int) and not isinstance(value, bool)
+
+
+def is_between(value, least, most):
+    """Whether any value is an integer from least to most."""
+    return is_integer(value) and least <= value <= most
+
+
+def is_list(value, least, most):
+    """Whether any value is a list of least to most items."""
+    return type(value) == list and least <= len(value) <= most
+
+
+def is_mark(marks, value):
+    """Whether any value is a mark of the ring."""
+    return is_between(value, 0, marks - 1)
+
+
+def is_record(marks, value):
+    """Whether any value is a record of the ring."""
+    if type(value) != tuple or len(value) != 2:
+        return False
+    begin, length = value
+    return is_mark(marks, begin) and is_between(length, 1, MOST_LENGTH)
+
+
+def is_new_index(many, items, at):
+    """Whether the item at a place is an index below many that stands nowhere earlier."""
+    # The kind comes first: True and 1 are equal, and an item can be any value.
+    return is_between(items[at], 0, many - 1) and items[at] not in items[:at]
+
+
+def check_marks(marks):
+    """Raise InvalidMarks unless a ring can have so many marks."""
+    if not is_between(marks, 1, MOST_MARKS):
+        raise InvalidMarks("marks must be an integer from 1 to 10 ** 30")
+
+
+def check_ring(marks, records):
+    """Raise the error of marks or of records unless these are records of the ring."""
+    check_marks(marks)
+    if not is_list(records, 1, MOST_RECORDS):
+        raise InvalidRecords(None)
+    for index, record in enumerate(records):
+        if not is_record(marks, record):
+            raise InvalidRecords(index)
+
+
+def check_mark(marks, mark):
+    """Raise InvalidMark unless this is a mark of the ring."""
+    if not is_mark(marks, mark):
+        raise InvalidMark("mark must be an integer from 0 to marks - 1")
+
+
+def check_integer(number):
+    """Raise InvalidNumber unless this is an integer."""
+    if not is_integer(number):
+        raise InvalidNumber("the number must be an integer")
+
+
+def check_least(number, least):
+    """Raise InvalidNumber unless this is an integer from least on."""
+    check_integer(number)
+    if number < least:
+        raise InvalidNumber(f"the number must be an integer from {least} on")
+
+
+def check_trip(records, order):
+    """Raise InvalidOrder unless this is a trip of the records."""
+    many = len(records)
+    if not is_list(order, many, many):
+        raise InvalidOrder(None)
+    for at in range(many):
+        if not is_new_index(many, order, at):
+            raise InvalidOrder(at)
+
+
+def check_lap(records, order):
+    """Raise InvalidOrder unless this is a lap of the records."""
+    many = len(records)
+    if is_list(order, many, many) and order[0] != 0:
+        raise InvalidOrder(0)
+    check_trip(records, order)

@@ -1,0 +1,186 @@
+"""Points [2] and [3]: what the parameters of all functions have in common, and the errors for wrong values."""
+
+import copy
+import inspect
+import unittest
+from itertools import combinations
+
+from ringreads import orders, rings
+from tests import support
+from tests.support import THREE, RingTest
+
+# For each function the arguments of a call, in the order of the signature, and what it returns.
+CALLS = [
+    (rings.is_records, {"marks": 4, "value": THREE}, True),
+    (rings.ends_of, {"marks": 4, "records": THREE}, [2, 3, 3]),
+    (rings.cover_at, {"marks": 4, "records": THREE, "mark": 1}, 2),
+    (rings.covers, {"marks": 4, "records": THREE}, [(0, 1), (1, 2), (2, 2), (3, 0)]),
+    (rings.most_cover, {"marks": 4, "records": THREE}, 2),
+    (rings.moved, {"marks": 4, "records": THREE, "by": -1}, [(3, 2), (0, 2), (1, 1)]),
+    (rings.moved, {"marks": 4, "records": THREE, "by": 0}, THREE),
+    (rings.mirrored, {"marks": 4, "records": THREE}, [(2, 2), (1, 2), (1, 1)]),
+    (rings.mirrored, {"marks": 4, "records": [(0, 4)]}, [(0, 4)]),
+    (rings.multiplied, {"marks": 4, "records": THREE, "factor": 10}, [(0, 20), (10, 20), (20, 10)]),
+    (rings.multiplied, {"marks": 4, "records": THREE, "factor": 1}, THREE),
+    (orders.is_lap, {"marks": 4, "records": THREE, "value": [0, 2, 1]}, True),
+    (orders.is_trip, {"marks": 4, "records": THREE, "value": [1, 0, 2]}, True),
+    (orders.lap_waits, {"marks": 4, "records": THREE, "order": [0, 2, 1]}, [0, 2, 1]),
+    (orders.lap_rounds, {"marks": 4, "records": THREE, "order": [0, 2, 1]}, 2),
+    (orders.mirrored_lap, {"marks": 4, "records": THREE, "order": [0, 2, 1]}, [0, 1, 2]),
+    (orders.mirrored_lap, {"marks": 4, "records": [(0, 4)], "order": [0]}, [0]),
+    (orders.trip_begins, {"marks": 4, "records": THREE, "mark": 0, "order": [1, 0, 2]}, [1, 4, 6]),
+    (orders.trip_ticks, {"marks": 4, "records": THREE, "mark": 0, "order": [1, 0, 2]}, 7),
+]
+SIGNATURES = {
+    rings: {
+        "is_records": "marks, value", "ends_of": "marks, records", "cover_at": "marks, records, mark",
+        "covers": "marks, records", "most_cover": "marks, records", "moved": "marks, records, by",
+        "mirrored": "marks, records", "multiplied": "marks, records, factor",
+    },
+    orders: {
+        "is_lap": "marks, records, value", "is_trip": "marks, records, value", "lap_waits": "marks, records, order",
+        "lap_rounds": "marks, records, order", "mirrored_lap": "marks, records, order",
+        "trip_begins": "marks, records, mark, order", "trip_ticks": "marks, records, mark, order",
+    },
+}
+TRIPS = ("trip_begins", "trip_ticks")
+WRONG = {
+    "marks": support.wrong_marks, "records": support.wrong_records, "mark": support.wrong_mark,
+    "by": support.wrong_by, "factor": support.wrong_factor,
+}
+
+
+def wrong_values(function, parameter):
+    """The wrong values of a parameter, each with the name and the fields of its error."""
+    if parameter == "order":
+        return support.wrong_trip() if function.__name__ in TRIPS else support.wrong_lap()
+    # A parameter called value has no wrong values.
+    return WRONG[parameter]() if parameter in WRONG else []
+
+
+def first_calls():
+    """One call of each function."""
+    found = {}
+    for function, arguments, _ in CALLS:
+        found.setdefault(function, arguments)
+    return found.items()
+
+
+class InterfaceTest(unittest.TestCase):
+
+    def test_each_function_stands_in_its_file_with_its_parameters(self):
+        for module, signatures in SIGNATURES.items():
+            for name, parameters in signatures.items():
+                with self.subTest(name):
+                    function = getattr(module, name)
+                    self.assertEqual(function.__module__, module.__name__)
+                    self.assertEqual(str(inspect.signature(function)), f"({parameters})")
+
+    def test_each_function_is_called_here(self):
+        listed = [getattr(module, name) for module, signatures in SIGNATURES.items() for name in signatures]
+        self.assertEqual(listed, [function for function, _ in first_calls()])
+
+    def test_by_position_and_by_name(self):
+        for function, arguments, expected in CALLS:
+            with self.subTest(function.__name__):
+                backwards = {name: arguments[name] for name in reversed(list(arguments))}
+                first, *others = arguments
+                rest = {name: arguments[name] for name in others}
+                for found in (function(*arguments.values()), function(**arguments), function(**backwards),
+                              function(arguments[first], **rest)):
+                    self.assertEqual(repr(found), repr(expected))
+
+    def test_arguments_stay_as_they_are(self):
+        for function, arguments, _ in CALLS:
+            with self.subTest(function.__name__):
+                passed = copy.deepcopy(arguments)
+                function(**passed)
+                self.assertEqual(repr(passed), repr(arguments))
+
+    def test_returned_lists_are_new_and_nothing_is_kept(self):
+        for function, arguments, expected in CALLS:
+            with self.subTest(function.__name__):
+                passed = copy.deepcopy(arguments)
+                found = function(**passed)
+                if isinstance(found, list):
+                    self.assertFalse([name for name, value in passed.items() if value is found])
+                    self.assertIsNot(function(**passed), found)
+                    found.append("changed")
+                    self.assertEqual(repr(passed), repr(arguments))
+                    found = function(**passed)
+                for value in passed.values():
+                    if isinstance(value, list):
+                        value.clear()
+                self.assertEqual(repr(found), repr(expected))
+                self.assertEqual(repr(function(**copy.deepcopy(arguments))), repr(expected))
+
+    def test_lists_hold_tuples_and_integers_of_the_exact_kind(self):
+        for function, arguments, expected in CALLS:
+            if isinstance(expected, list):
+                found = function(**arguments)
+                self.assertIs(type(found), list)
+                self.assertEqual([type(item) for item in found], [type(item) for item in expected])
+
+
+class WrongValuesTest(RingTest):
+
+    def test_every_wrong_value_of_every_parameter(self):
+        for function, arguments in first_calls():
+            for parameter in arguments:
+                with self.subTest(function.__name__, parameter=parameter):
+                    for value, name, fields in wrong_values(function, parameter):
+                        passed = {**arguments, parameter: value}
+                        self.expect(name, fields, function, **passed)
+                        self.expect(name, fields, function, *passed.values())
+
+    def test_every_parameter_but_value_has_wrong_values(self):
+        for function, arguments in first_calls():
+            for parameter in arguments:
+                self.assertEqual(wrong_values(function, parameter) == [], parameter == "value", parameter)
+
+    def test_the_error_of_the_first_wrong_parameter(self):
+        for function, arguments in first_calls():
+            for first, second in combinations(arguments, 2):
+                later = wrong_values(function, second)
+                for at, (value, name, fields) in enumerate(wrong_values(function, first)):
+                    # Values of different kinds and indices meet as both lists are gone through.
+                    for other, _, _ in later[at % 7::7]:
+                        self.expect(name, fields, function, **{**arguments, first: value, second: other})
+
+    def test_all_parameters_wrong(self):
+        for function, arguments in first_calls():
+            for value, name, fields in support.wrong_marks():
+                self.expect(name, fields, function, **{**arguments, **dict.fromkeys(arguments, value)})
+
+    def test_any_value_beside_wrong_parameters(self):
+        for value, _, _ in support.wrong_trip():
+            self.expect("InvalidMarks", {}, rings.is_records, 0, value)
+            for function in (orders.is_lap, orders.is_trip):
+                self.expect("InvalidMarks", {}, function, 0, [], value)
+                self.expect("InvalidRecords", {"index": None}, function, 4, [], value)
+                self.expect("InvalidRecords", {"index": 2}, function, 4, [(0, 2), (1, 1), (4, 1)], value)
+
+    def test_impossible_comes_last(self):
+        huge = 10 ** 100 - 1
+        self.expect("InvalidMarks", {}, rings.multiplied, 0, THREE, huge)
+        self.expect("InvalidMarks", {}, rings.multiplied, 10 ** 30 + 1, THREE, 1)
+        self.expect("InvalidRecords", {"index": 1}, rings.multiplied, 4, [(0, 10 ** 31), (0, 10 ** 31 + 1)], huge)
+        self.expect("InvalidNumber", {}, rings.multiplied, 10 ** 30, [(0, 10 ** 31)], 0)
+        self.expect("InvalidNumber", {}, rings.multiplied, 10 ** 30, [(0, 10 ** 31)], "2")
+        self.expect("Impossible", {}, rings.multiplied, 10 ** 30, [(0, 10 ** 31)], 2)
+
+    def test_values_at_the_border_of_greater_and_smaller_rings(self):
+        for marks in (1, 2, 10 ** 30):
+            ring = [(0, 1)]
+            self.assertEqual(rings.cover_at(marks, [(marks - 1, 1)], marks - 1), 1)
+            self.assertEqual(orders.trip_begins(marks, ring, marks - 1, [0]), [1 - 1 // marks])
+            for function, more in ((rings.cover_at, []), (orders.trip_begins, [[0]]), (orders.trip_ticks, [[0]])):
+                self.expect("InvalidMark", {}, function, marks, ring, marks, *more)
+                self.expect("InvalidMark", {}, function, marks, ring, -1, *more)
+            for function in (rings.ends_of, rings.covers, rings.most_cover, rings.mirrored):
+                self.expect("InvalidRecords", {"index": 1}, function, marks, [(marks - 1, 10 ** 31), (marks, 1)])
+                self.expect("InvalidRecords", {"index": 0}, function, marks, [(0, 10 ** 31 + 1), (marks, 1)])
+
+
+if __name__ == "__main__":
+    unittest.main()

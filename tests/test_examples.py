@@ -1,0 +1,73 @@
+"""The examples of the document, as they stand there."""
+
+import unittest
+
+from ringreads import errors
+
+RECORDS = """
+>>> three = [(0, 2), (1, 2), (2, 1)]
+>>> apart = [(0, 2), (1, 2)]
+>>> late = [(0, 2, 0), (1, 2, 0), (2, 1, 5)]
+"""
+RINGS = """
+>>> from ringreads.rings import cover_at, covers, ends_of, is_records, mirrored, most_cover, moved, multiplied
+>>> [is_records(4, value) for value in [three, [(4, 1)], [(0, 0)], [], [(3, 10 ** 31)], [[0, 2]], ((0, 2),)]], ends_of(4, three)
+([True, False, False, False, True, False, False], [2, 3, 3])
+>>> covers(4, three), most_cover(4, three), [cover_at(3, [(1, 10)], mark) for mark in range(3)], covers(2, apart)
+([(0, 1), (1, 2), (2, 2), (3, 0)], 2, [3, 4, 3], [(0, 2), (1, 2)])
+>>> moved(4, three, -1), mirrored(4, three), multiplied(4, three, 10)
+([(3, 2), (0, 2), (1, 1)], [(2, 2), (1, 2), (1, 1)], [(0, 20), (10, 20), (20, 10)])
+"""
+ORDERS = """
+>>> from ringreads.orders import is_lap, is_trip, lap_rounds, lap_waits, mirrored_lap, trip_begins, trip_ticks
+>>> [is_lap(4, three, value) for value in [[0, 2, 1], [1, 0, 2], [0, 1], (0, 1, 2)]], is_trip(4, three, [1, 0, 2])
+([True, False, False, False], True)
+>>> lap_waits(4, three, [0, 2, 1]), lap_rounds(4, three, [0, 2, 1]), lap_rounds(4, three, [0, 1, 2]), mirrored_lap(4, three, [0, 2, 1])
+([0, 2, 1], 2, 3, [0, 1, 2])
+>>> trip_begins(4, three, 0, [1, 0, 2]), trip_ticks(4, three, 0, [1, 0, 2]), trip_ticks(4, three, 0, [0, 1, 2])
+([1, 4, 6], 7, 11)
+>>> lap_rounds(4, three, [0, 2, 2])
+raises InvalidOrder(index=2)
+"""
+
+
+def steps(text):
+    """The commands of an example, each with the line behind it, or with None if that is a command too."""
+    lines = [line for line in text.split("\n") if line] + [">>> "]
+    for line, after in zip(lines, lines[1:]):
+        if line.startswith(">>> "):
+            yield line[4:], None if after.startswith(">>> ") else after
+
+
+def told(error):
+    """An error as the document tells it."""
+    fields = ", ".join(f"{name}={value!r}" for name, value in vars(error).items())
+    return f"raises {type(error).__name__}({fields})" if fields else f"raises {type(error).__name__}"
+
+
+class ExamplesTest(unittest.TestCase):
+
+    def run_example(self, text):
+        names = {}
+        checked = 0
+        for command, expected in steps(RECORDS + text):
+            if expected is None:
+                exec(command, names)
+                continue
+            try:
+                found = repr(eval(command, names))
+            except errors.RingError as error:
+                found = told(error)
+            self.assertEqual(found, expected, command)
+            checked += 1
+        return checked
+
+    def test_rings(self):
+        self.assertEqual(self.run_example(RINGS), 3)
+
+    def test_orders(self):
+        self.assertEqual(self.run_example(ORDERS), 4)
+
+
+if __name__ == "__main__":
+    unittest.main()
