@@ -1,6 +1,6 @@
 """What the parameters of the functions must be, and the errors if they are not."""
 
-from ringreads.errors import InvalidMark, InvalidMarks, InvalidNumber, InvalidOrder, InvalidRecords
+from ringreads.errors import InvalidMark, InvalidMarks, InvalidNumber, InvalidOrder, InvalidRecords, TooLarge
 
 MOST_MARKS = 10 ** 30
 MOST_LENGTH = 10 ** 31
@@ -33,6 +33,13 @@ def is_record(marks, value):
         return False
     begin, length = value
     return is_mark(marks, begin) and is_between(length, 1, MOST_LENGTH)
+
+
+def is_ascending(many, value):
+    """Whether any value is an ascending list of indices below many."""
+    if type(value) != list or not all([is_between(item, 0, many - 1) for item in value]):
+        return False
+    return all([item < after for item, after in zip(value, value[1:])])
 
 
 def is_new_index(many, items, at):
@@ -74,6 +81,18 @@ def check_least(number, least):
     check_integer(number)
     if number < least:
         raise InvalidNumber(f"the number must be an integer from {least} on")
+
+
+def check_between(number, least, most):
+    """Raise InvalidNumber unless this is an integer from least to most."""
+    if not is_between(number, least, most):
+        raise InvalidNumber(f"the number must be an integer from {least} to {most}")
+
+
+def check_few(records, most):
+    """Raise TooLarge if there are more records than most."""
+    if len(records) > most:
+        raise TooLarge(most)
 
 
 def check_trip(records, order):

@@ -24,6 +24,30 @@ def cover_of(marks, records, mark):
     return sum([times_over(marks, record, mark) for record in records])
 
 
+def covers_of(marks, records):
+    """The ascending list of tuples (mark, cover) for all marks at which a record begins or ends."""
+    cover = 0
+    changes = {}
+    for record in records:
+        begin, length = record
+        end = end_of(marks, record)
+        changes[begin] = changes.get(begin, 0) + 1
+        changes[end] = changes.get(end, 0) - 1
+        # The cover ahead of the first change is that of the arc which leads to the mark 0.
+        cover += length // marks + (1 if end < begin else 0)
+    found = []
+    for mark in sorted(changes):
+        cover += changes[mark]
+        found.append((mark, cover))
+    return found
+
+
+def most_of(marks, records):
+    """The greatest cover of an arc."""
+    # The cover changes only where a record begins or ends, so no other arc has a greater one.
+    return max([cover for _, cover in covers_of(marks, records)])
+
+
 def is_records(marks, value):
     """Whether any value is a list of 1 to 30 records of the ring."""
     check_marks(marks)
@@ -46,14 +70,13 @@ def cover_at(marks, records, mark):
 def covers(marks, records):
     """The ascending list of tuples (mark, cover) for all marks at which a record begins or ends."""
     check_ring(marks, records)
-    borders = [begin for begin, _ in records] + ends_of(marks, records)
-    return [(mark, cover_of(marks, records, mark)) for mark in sorted(set(borders))]
+    return covers_of(marks, records)
 
 
 def most_cover(marks, records):
     """The greatest cover of an arc."""
-    # The cover changes only where a record begins or ends, so no other arc has a greater one.
-    return max([cover for _, cover in covers(marks, records)])
+    check_ring(marks, records)
+    return most_of(marks, records)
 
 
 def moved(marks, records, by):

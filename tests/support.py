@@ -22,6 +22,7 @@ NO_RECORDS = [
     (0, (2,)), ({}, 2), (-1, 2), (4, 2), (HUGE, 2), (-HUGE, 2), (0, 0), (0, -1), (0, 10 ** 31 + 1), (0, HUGE),
     (0, -HUGE), [[[[]]]], (((0, 2), 0), 2), RingError("a"), (InvalidRecords(0), 2), (0, InvalidRecords(0)),
 ]
+ANY_VALUES = NOT_NUMBERS + NOT_LISTS + NO_RECORDS + [2, 3, -1, HUGE, "mark", "split", ("mark",), ("split",)]
 
 
 def wrong_marks():
@@ -61,14 +62,9 @@ def wrong_lap():
     return trips + [(value, "InvalidOrder", {"index": 0}) for value in starts]
 
 
-def wrong_by():
-    """Values that are no integer, each with the error."""
-    return [(value, "InvalidNumber", {}) for value in NOT_NUMBERS]
-
-
-def wrong_factor():
-    """Values that are no integer from 1 on, each with the error."""
-    return [(value, "InvalidNumber", {}) for value in NOT_NUMBERS + [0, -1, -10, -HUGE]]
+def wrong_number(integers):
+    """Values that are no integer in a range, with those integers that are not in it, each with the error."""
+    return [(value, "InvalidNumber", {}) for value in NOT_NUMBERS + integers]
 
 
 class RingTest(unittest.TestCase):

@@ -5,9 +5,9 @@ import inspect
 import unittest
 from itertools import combinations
 
-from ringreads import orders, rings
+from ringreads import counting, orders, rings, rounds, trips
 from tests import support
-from tests.support import THREE, RingTest
+from tests.support import APART, HUGE, THREE, RingTest
 
 # For each function the arguments of a call, in the order of the signature, and what it returns.
 CALLS = [
@@ -30,6 +30,27 @@ CALLS = [
     (orders.mirrored_lap, {"marks": 4, "records": [(0, 4)], "order": [0]}, [0]),
     (orders.trip_begins, {"marks": 4, "records": THREE, "mark": 0, "order": [1, 0, 2]}, [1, 4, 6]),
     (orders.trip_ticks, {"marks": 4, "records": THREE, "mark": 0, "order": [1, 0, 2]}, 7),
+    (rounds.fewest_rounds, {"marks": 4, "records": THREE}, 2),
+    (rounds.least_lap, {"marks": 4, "records": THREE}, [0, 2, 1]),
+    (rounds.least_lap, {"marks": 4, "records": [(0, 4)]}, [0]),
+    (rounds.parts, {"marks": 4, "records": THREE}, [[0, 1, 2]]),
+    (rounds.parts, {"marks": 2, "records": APART}, [[0], [1]]),
+    (rounds.refusal, {"marks": 4, "records": THREE, "rounds": 1}, ("mark", 1)),
+    (rounds.refusal, {"marks": 4, "records": THREE, "rounds": 2}, None),
+    (rounds.refusal, {"marks": 2, "records": APART, "rounds": 2}, ("split", [0])),
+    (rounds.shows_refusal, {"marks": 4, "records": THREE, "rounds": 1, "value": ("mark", 2)}, True),
+    (rounds.shows_refusal, {"marks": 2, "records": APART, "rounds": 2, "value": ("split", [1])}, True),
+    (counting.lap_count, {"marks": 4, "records": THREE}, 1),
+    (counting.nth_lap, {"marks": 4, "records": THREE, "index": 0}, [0, 2, 1]),
+    (counting.lap_index, {"marks": 4, "records": THREE, "order": [0, 2, 1]}, 0),
+    (counting.follow_count, {"marks": 4, "records": THREE, "first": 0, "second": 2}, 1),
+    (counting.may_follow, {"marks": 4, "records": THREE}, [(0, 2), (1, 0), (2, 1)]),
+    (counting.must_follow, {"marks": 4, "records": THREE}, [(0, 2), (1, 0), (2, 1)]),
+    (trips.trip_bounds, {"marks": 4, "records": THREE, "mark": 0}, [(2, 3, 10), (3, 2, 7)]),
+    (trips.fewest_ticks, {"marks": 4, "records": THREE, "mark": 0}, 7),
+    (trips.least_trip, {"marks": 4, "records": THREE, "mark": 0}, [0, 2, 1]),
+    (trips.trip_count, {"marks": 4, "records": THREE, "mark": 0}, 2),
+    (trips.best_begins, {"marks": 4, "records": THREE}, [1]),
 ]
 SIGNATURES = {
     rings: {
@@ -42,20 +63,51 @@ SIGNATURES = {
         "lap_rounds": "marks, records, order", "mirrored_lap": "marks, records, order",
         "trip_begins": "marks, records, mark, order", "trip_ticks": "marks, records, mark, order",
     },
+    rounds: {
+        "fewest_rounds": "marks, records", "least_lap": "marks, records", "parts": "marks, records",
+        "refusal": "marks, records, rounds", "shows_refusal": "marks, records, rounds, value",
+    },
+    counting: {
+        "lap_count": "marks, records", "nth_lap": "marks, records, index", "lap_index": "marks, records, order",
+        "follow_count": "marks, records, first, second", "may_follow": "marks, records",
+        "must_follow": "marks, records",
+    },
+    trips: {
+        "trip_bounds": "marks, records, mark", "fewest_ticks": "marks, records, mark",
+        "least_trip": "marks, records, mark", "trip_count": "marks, records, mark", "best_begins": "marks, records",
+    },
+}
+# For each number of a call above integers that it cannot be there.
+NUMBERS = {
+    (rings.moved, "by"): [],
+    (rings.multiplied, "factor"): [0, -1, -10, -HUGE],
+    (rounds.refusal, "rounds"): [-1, -HUGE],
+    (rounds.shows_refusal, "rounds"): [-1, -HUGE],
+    (counting.nth_lap, "index"): [-1, -HUGE, 1, 2, HUGE],
+    (counting.follow_count, "first"): [-1, -HUGE, 3, 4, HUGE],
+    (counting.follow_count, "second"): [-1, -HUGE, 3, 4, HUGE],
 }
 TRIPS = ("trip_begins", "trip_ticks")
-WRONG = {
-    "marks": support.wrong_marks, "records": support.wrong_records, "mark": support.wrong_mark,
-    "by": support.wrong_by, "factor": support.wrong_factor,
-}
+WRONG = {"marks": support.wrong_marks, "records": support.wrong_records, "mark": support.wrong_mark}
 
 
 def wrong_values(function, parameter):
     """The wrong values of a parameter, each with the name and the fields of its error."""
+    if parameter == "value":
+        return []
     if parameter == "order":
         return support.wrong_trip() if function.__name__ in TRIPS else support.wrong_lap()
-    # A parameter called value has no wrong values.
-    return WRONG[parameter]() if parameter in WRONG else []
+    if parameter in WRONG:
+        return WRONG[parameter]()
+    return support.wrong_number(NUMBERS[function, parameter])
+
+
+def lists_in(value):
+    """All lists within a value, it itself too."""
+    found = [value] if isinstance(value, list) else []
+    for item in value if isinstance(value, (list, tuple)) else []:
+        found += lists_in(item)
+    return found
 
 
 def first_calls():
@@ -102,15 +154,16 @@ class InterfaceTest(unittest.TestCase):
             with self.subTest(function.__name__):
                 passed = copy.deepcopy(arguments)
                 found = function(**passed)
-                if isinstance(found, list):
-                    self.assertFalse([name for name, value in passed.items() if value is found])
-                    self.assertIsNot(function(**passed), found)
-                    found.append("changed")
-                    self.assertEqual(repr(passed), repr(arguments))
-                    found = function(**passed)
-                for value in passed.values():
-                    if isinstance(value, list):
-                        value.clear()
+                # Lists that are kept here have unlike ids.
+                kept = [lists_in(value) for value in (list(passed.values()), found, function(**passed))]
+                ids = [id(item) for lists in kept for item in lists]
+                self.assertEqual(len(ids), len(set(ids)))
+                for item in lists_in(found):
+                    item.append("changed")
+                self.assertEqual(repr(passed), repr(arguments))
+                found = function(**passed)
+                for item in kept[0]:
+                    item.clear()
                 self.assertEqual(repr(found), repr(expected))
                 self.assertEqual(repr(function(**copy.deepcopy(arguments))), repr(expected))
 
@@ -144,7 +197,7 @@ class WrongValuesTest(RingTest):
                 later = wrong_values(function, second)
                 for at, (value, name, fields) in enumerate(wrong_values(function, first)):
                     # Values of different kinds and indices meet as both lists are gone through.
-                    for other, _, _ in later[at % 7::7]:
+                    for other, _, _ in later[at % 19::19]:
                         self.expect(name, fields, function, **{**arguments, first: value, second: other})
 
     def test_all_parameters_wrong(self):

@@ -29,6 +29,29 @@ ORDERS = """
 >>> lap_rounds(4, three, [0, 2, 2])
 raises InvalidOrder(index=2)
 """
+ROUNDS = """
+>>> from ringreads.rounds import fewest_rounds, least_lap, parts, refusal, shows_refusal
+>>> fewest_rounds(4, three), fewest_rounds(2, apart), fewest_rounds(1, [(0, 3), (0, 4)]), fewest_rounds(10 ** 30, [(5, 10 ** 30)])
+(2, 3, 7, 1)
+>>> parts(4, three), parts(2, apart), least_lap(4, three), refusal(2, apart, 3)
+([[0, 1, 2]], [[0], [1]], [0, 2, 1], None)
+>>> [shows_refusal(2, apart, 2, value) for value in [("split", [0]), ("split", [1]), ("split", [0, 1]), ("mark", 0)]], shows_refusal(2, apart, 1, ("mark", 0)), shows_refusal(2, apart, 1, ("split", [0]))
+([True, True, False, False], True, False)
+"""
+COUNTING = """
+>>> from ringreads.counting import follow_count, lap_count, lap_index, may_follow, must_follow, nth_lap
+>>> lap_count(4, three), lap_count(2, apart), lap_count(3, [(0, 1)] * 3), nth_lap(3, [(0, 1)] * 3, 1), lap_index(4, three, [0, 2, 1])
+(1, 1, 2, [0, 2, 1], 0)
+>>> follow_count(3, [(0, 1)] * 3, 0, 1), must_follow(4, three), may_follow(3, [(0, 1)] * 3), lap_count(10 ** 30, [(7, 1)] * 30) == lap_count(2, [(0, 1)] * 30)
+(1, [(0, 2), (1, 0), (2, 1)], [(0, 1), (0, 2), (1, 0), (1, 2), (2, 0), (2, 1)], True)
+"""
+TRIPS = """
+>>> from ringreads.trips import best_begins, fewest_ticks, least_trip, trip_bounds, trip_count
+>>> trip_bounds(4, three, 0), fewest_ticks(4, three, 0), least_trip(4, three, 0), trip_count(4, three, 0)
+([(2, 3, 10), (3, 2, 7)], 7, [0, 2, 1], 2)
+>>> [fewest_ticks(4, three, mark) for mark in (1, 2)], best_begins(4, three), trip_count(2, [(0, 1)], 1), fewest_ticks(2, [(0, 1)], 1)
+([6, 8], [1], 1, 2)
+"""
 
 
 def steps(text):
@@ -67,6 +90,15 @@ class ExamplesTest(unittest.TestCase):
 
     def test_orders(self):
         self.assertEqual(self.run_example(ORDERS), 4)
+
+    def test_rounds(self):
+        self.assertEqual(self.run_example(ROUNDS), 3)
+
+    def test_counting(self):
+        self.assertEqual(self.run_example(COUNTING), 2)
+
+    def test_trips(self):
+        self.assertEqual(self.run_example(TRIPS), 2)
 
 
 if __name__ == "__main__":

@@ -29,6 +29,7 @@ WORDS = (
     "NamedTuple TypedDict TYPE_CHECKING abstractmethod dataclass overload contextmanager register mro elements open "
     "input law version_info"
 ).split()
+LIBRARY = {"math": "gcd lcm isqrt comb perm factorial".split()}
 PLAIN = (ast.Constant, ast.Tuple, ast.List, ast.Dict, ast.BinOp, ast.UnaryOp)
 
 
@@ -106,6 +107,9 @@ class LanguageTest(unittest.TestCase):
             for node in imports:
                 self.assertIsInstance(node, ast.ImportFrom, path)
                 self.assertEqual(node.level, 0, path)
+                if node.module in LIBRARY:
+                    self.check_library(path, tree, node)
+                    continue
                 other = node.module.replace(".", "/") + ".py"
                 self.assertIn(other, self.trees, path)
                 for alias in node.names:
@@ -117,6 +121,15 @@ class LanguageTest(unittest.TestCase):
             self.assertTrue(free, f"these import from each other: {uses}")
             for name in free:
                 del uses[name]
+
+    def check_library(self, path, tree, node):
+        for alias in node.names:
+            self.assertIsNone(alias.asname, path)
+            self.assertIn(alias.name, LIBRARY[node.module], path)
+            named = [use for use in ast.walk(tree) if isinstance(use, ast.Name) and use.id == alias.name]
+            calls = [use for use in ast.walk(tree) if isinstance(use, ast.Call) and use.func in named]
+            self.assertEqual(len(named), len(calls), path)
+            self.assertFalse([use for use in calls if use.keywords], path)
 
     def test_l3_module_level(self):
         for path, tree in self.trees.items():

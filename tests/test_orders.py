@@ -6,41 +6,7 @@ from itertools import permutations, product
 from ringreads.orders import is_lap, is_trip, lap_rounds, lap_waits, mirrored_lap, trip_begins, trip_ticks
 from ringreads.rings import mirrored
 from tests.support import THREE, wrong_lap, wrong_trip
-
-MOST = 10 ** 30
-LONGEST = 10 ** 31
-
-
-def small_rings():
-    """Lists of one to four records on rings of 1 to 4 marks."""
-    for marks in range(1, 5):
-        records = list(product(range(marks), (1, 2, 3, 5, 8)))
-        for record in records:
-            yield marks, [record]
-        for pair in product(records, records[::2]):
-            yield marks, list(pair)
-        for triple in product(records[::2], records[1::3], records[2::4]):
-            yield marks, list(triple)
-        yield marks, [records[0], records[0], records[-1], records[-1]]
-
-
-def read(marks, records, at, order):
-    """Read the records tick by tick: the ticks at which they are begun, the last end, and the mark there."""
-    tick = 0
-    begins = []
-    for index in order:
-        begin, length = records[index]
-        while at != begin:
-            at, tick = (at + 1) % marks, tick + 1
-        begins.append(tick)
-        for _ in range(length):
-            at, tick = (at + 1) % marks, tick + 1
-    return begins, tick, at
-
-
-def laps_of(records):
-    """All laps of the records."""
-    return [[0, *rest] for rest in permutations(range(1, len(records)))]
+from tests.walks import LONGEST, MOST, laps_of, read, small_rings
 
 
 class IsOrderTest(unittest.TestCase):

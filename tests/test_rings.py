@@ -5,9 +5,7 @@ from itertools import product
 
 from ringreads.rings import cover_at, covers, ends_of, is_records, mirrored, most_cover, moved, multiplied
 from tests.support import NO_RECORDS, NOT_LISTS, THREE, RingTest
-
-MOST = 10 ** 30
-LONGEST = 10 ** 31
+from tests.walks import LONGEST, MOST, counted, great_rings, walked
 
 
 def small_rings():
@@ -20,25 +18,6 @@ def small_rings():
             yield marks, list(pair)
         for triple in product(records[::3], records[1::4], records[2::5]):
             yield marks, list(triple)
-
-
-def walked(marks, record):
-    """The arcs that a record lies over, one by one, and the mark at its end."""
-    at, length = record
-    arcs = []
-    for _ in range(length):
-        arcs.append(at)
-        at = 0 if at == marks - 1 else at + 1
-    return arcs, at
-
-
-def counted(marks, records):
-    """The cover of each arc, counted arc by arc."""
-    cover = [0] * marks
-    for record in records:
-        for arc in walked(marks, record)[0]:
-            cover[arc] += 1
-    return cover
 
 
 class IsRecordsTest(unittest.TestCase):
@@ -117,6 +96,15 @@ class CoverTest(unittest.TestCase):
         self.assertEqual(ends_of(4, records), [2, 2, 3, 3])
         self.assertEqual(covers(4, records), [(1, 5), (2, 3), (3, 1)])
         self.assertEqual(most_cover(4, records), 5)
+
+    def test_great_rings_arc_by_arc_beside_borders(self):
+        for marks, records in great_rings():
+            found = covers(marks, records)
+            borders = sorted({begin for begin, _ in records} | set(ends_of(marks, records)))
+            self.assertEqual(found, [(mark, cover_at(marks, records, mark)) for mark in borders])
+            self.assertEqual(most_cover(marks, records), max(cover for _, cover in found))
+            for (mark, cover), (after, _) in zip(found, found[1:] + found[:1]):
+                self.assertEqual(cover_at(marks, records, (after - 1) % marks), cover, (marks, mark))
 
     def test_thirty_records(self):
         records = [(index, 30 - index) for index in range(30)]
