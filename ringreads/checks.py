@@ -1,10 +1,14 @@
 """What the parameters of the functions must be, and the errors if they are not."""
 
-from ringreads.errors import InvalidMark, InvalidMarks, InvalidNumber, InvalidOrder, InvalidRecords, TooLarge
+from ringreads.errors import InvalidArrivals, InvalidHeads, InvalidMark, InvalidMarks, InvalidNumber, InvalidOrder
+from ringreads.errors import InvalidRecord, InvalidRecords, InvalidRule, TooLarge
 
 MOST_MARKS = 10 ** 30
 MOST_LENGTH = 10 ** 31
+MOST_TICK = 10 ** 31
 MOST_RECORDS = 30
+MOST_HEADS = 6
+RULES = ("nearest", "longest", "shortest", "listed", "brief")
 
 
 def is_integer(value):
@@ -33,6 +37,13 @@ def is_record(marks, value):
         return False
     begin, length = value
     return is_mark(marks, begin) and is_between(length, 1, MOST_LENGTH)
+
+
+def is_arrival(marks, value):
+    """Whether any value is an arrival on the ring."""
+    if type(value) != tuple or len(value) != 3:
+        return False
+    return is_record(marks, value[:2]) and is_between(value[2], 0, MOST_TICK)
 
 
 def is_ascending(many, value):
@@ -68,6 +79,36 @@ def check_mark(marks, mark):
     """Raise InvalidMark unless this is a mark of the ring."""
     if not is_mark(marks, mark):
         raise InvalidMark("mark must be an integer from 0 to marks - 1")
+
+
+def check_record(marks, record):
+    """Raise InvalidRecord unless this is a record of the ring."""
+    if not is_record(marks, record):
+        raise InvalidRecord("record must be a tuple of a mark and a length from 1 to 10 ** 31")
+
+
+def check_heads(marks, heads):
+    """Raise InvalidHeads unless this is a list of heads on the ring."""
+    if not is_list(heads, 1, MOST_HEADS):
+        raise InvalidHeads(None)
+    for index, head in enumerate(heads):
+        if not is_mark(marks, head):
+            raise InvalidHeads(index)
+
+
+def check_rule(rule):
+    """Raise InvalidRule unless this is the name of a rule."""
+    if type(rule) != str or rule not in RULES:
+        raise InvalidRule("rule must be nearest, longest, shortest, listed or brief")
+
+
+def check_arrivals(marks, arrivals):
+    """Raise InvalidArrivals unless this is a list of arrivals on the ring."""
+    if not is_list(arrivals, 1, MOST_RECORDS):
+        raise InvalidArrivals(None)
+    for index, arrival in enumerate(arrivals):
+        if not is_arrival(marks, arrival):
+            raise InvalidArrivals(index)
 
 
 def check_integer(number):

@@ -1,6 +1,7 @@
 """Laps, which read all records again and again, and trips, which read them once from a mark on."""
 
 from ringreads.checks import check_lap, check_mark, check_ring, check_trip, is_list, is_new_index
+from ringreads.passes import first_pass
 from ringreads.rings import end_of
 
 
@@ -56,8 +57,7 @@ def trip_begins(marks, records, mark, order):
     tick = 0
     for index in order:
         begin, length = records[index]
-        # At a tick the head is at the mark (mark + tick) % marks, whether it reads or waits.
-        tick += (begin - mark - tick) % marks
+        tick = first_pass(marks, mark, begin, tick)
         begins.append(tick)
         tick += length
     return begins

@@ -5,9 +5,9 @@ import inspect
 import unittest
 from itertools import combinations
 
-from ringreads import counting, orders, rings, rounds, trips
+from ringreads import arrivals, changes, counting, heads, orders, rings, rounds, rules, trips
 from tests import support
-from tests.support import APART, HUGE, THREE, RingTest
+from tests.support import APART, HUGE, LATE, THREE, RingTest
 
 # For each function the arguments of a call, in the order of the signature, and what it returns.
 CALLS = [
@@ -51,6 +51,32 @@ CALLS = [
     (trips.least_trip, {"marks": 4, "records": THREE, "mark": 0}, [0, 2, 1]),
     (trips.trip_count, {"marks": 4, "records": THREE, "mark": 0}, 2),
     (trips.best_begins, {"marks": 4, "records": THREE}, [1]),
+    (changes.longest_length, {"marks": 4, "records": THREE, "index": 1}, 3),
+    (changes.gap_at, {"marks": 4, "records": THREE, "mark": 3}, 2),
+    (changes.added_rounds, {"marks": 4, "records": [(0, 4)], "record": (3, 2)}, 2),
+    (changes.saved_rounds, {"marks": 4, "records": THREE, "index": 0}, 0),
+    (changes.saved_rounds, {"marks": 2, "records": APART, "index": 1}, 2),
+    (changes.cut_saves, {"marks": 4, "records": THREE, "index": 0, "length": 1}, 0),
+    (changes.cut_saves, {"marks": 2, "records": APART, "index": 0, "length": 1}, 1),
+    (rules.rule_trip, {"marks": 4, "records": THREE, "mark": 0, "rule": "nearest"}, [0, 2, 1]),
+    (rules.rule_trip, {"marks": 4, "records": THREE, "mark": 0, "rule": "listed"}, [0, 1, 2]),
+    (rules.rule_trip, {"marks": 4, "records": THREE, "mark": 0, "rule": "brief"}, [2, 0, 1]),
+    (rules.rule_ticks, {"marks": 4, "records": THREE, "mark": 0, "rule": "listed"}, 11),
+    (heads.pieces_ticks, {"marks": 4, "records": THREE, "heads": [0, 2]}, 4),
+    (heads.pieces_mark, {"marks": 4, "records": THREE, "heads": [0, 2]}, 1),
+    (heads.heads_run, {"marks": 4, "records": THREE, "heads": [0, 2]}, [(0, 0), (1, 3), (1, 0)]),
+    (heads.heads_ticks, {"marks": 4, "records": THREE, "heads": [0, 2]}, 5),
+    (heads.head_bounds, {"marks": 4, "records": THREE, "many": 2}, (1, 1)),
+    (heads.head_bounds, {"marks": 2, "records": APART, "many": 1}, (2, 4)),
+    (heads.head_plan, {"marks": 4, "records": [(0, 4)], "many": 3}, [[0], [], []]),
+    (heads.head_plan, {"marks": 2, "records": APART, "many": 1}, [[0, 1]]),
+    (heads.shows_head_plan, {"marks": 4, "records": THREE, "many": 2, "value": [[0, 2], [1]]}, True),
+    (arrivals.arrival_run, {"marks": 4, "mark": 0, "arrivals": LATE}, [0, 5, 10]),
+    (arrivals.arrival_ticks, {"marks": 4, "mark": 0, "arrivals": LATE}, 11),
+    (arrivals.arrival_bound, {"marks": 4, "mark": 0, "arrivals": LATE}, 7),
+    (arrivals.forcing_start, {"marks": 4, "many": 1}, [(0, 2, 0), (1, 2, 0)]),
+    (arrivals.forcing_more, {"marks": 4, "many": 2, "first": 2, "second": 0}, [(2, 1, 8), (2, 1, 8)]),
+    (arrivals.forced_ticks, {"marks": 3, "many": 2, "first": 2, "second": 0}, (18, 12)),
 ]
 SIGNATURES = {
     rings: {
@@ -76,6 +102,23 @@ SIGNATURES = {
         "trip_bounds": "marks, records, mark", "fewest_ticks": "marks, records, mark",
         "least_trip": "marks, records, mark", "trip_count": "marks, records, mark", "best_begins": "marks, records",
     },
+    changes: {
+        "longest_length": "marks, records, index", "gap_at": "marks, records, mark",
+        "added_rounds": "marks, records, record", "saved_rounds": "marks, records, index",
+        "cut_saves": "marks, records, index, length",
+    },
+    rules: {"rule_trip": "marks, records, mark, rule", "rule_ticks": "marks, records, mark, rule"},
+    heads: {
+        "pieces_ticks": "marks, records, heads", "pieces_mark": "marks, records, heads",
+        "heads_run": "marks, records, heads", "heads_ticks": "marks, records, heads",
+        "head_bounds": "marks, records, many", "head_plan": "marks, records, many",
+        "shows_head_plan": "marks, records, many, value",
+    },
+    arrivals: {
+        "arrival_run": "marks, mark, arrivals", "arrival_ticks": "marks, mark, arrivals",
+        "arrival_bound": "marks, mark, arrivals", "forcing_start": "marks, many",
+        "forcing_more": "marks, many, first, second", "forced_ticks": "marks, many, first, second",
+    },
 }
 # For each number of a call above integers that it cannot be there.
 NUMBERS = {
@@ -86,9 +129,27 @@ NUMBERS = {
     (counting.nth_lap, "index"): [-1, -HUGE, 1, 2, HUGE],
     (counting.follow_count, "first"): [-1, -HUGE, 3, 4, HUGE],
     (counting.follow_count, "second"): [-1, -HUGE, 3, 4, HUGE],
+    (changes.longest_length, "index"): [-1, -HUGE, 3, 4, HUGE],
+    (changes.saved_rounds, "index"): [-1, -HUGE, 3, 4, HUGE],
+    (changes.cut_saves, "index"): [-1, -HUGE, 3, 4, HUGE],
+    (changes.cut_saves, "length"): [0, -1, -HUGE, 2, 3, HUGE],
+    (heads.head_bounds, "many"): [0, -1, -HUGE, 31, 32, HUGE],
+    (heads.head_plan, "many"): [0, -1, -HUGE, 31, 32, HUGE],
+    (heads.shows_head_plan, "many"): [0, -1, -HUGE, 31, 32, HUGE],
+    (arrivals.forcing_start, "many"): [0, -1, -HUGE, 11, 12, HUGE],
+    (arrivals.forcing_more, "many"): [0, -1, -HUGE, 11, 12, HUGE],
+    (arrivals.forcing_more, "first"): [-1, -2, -HUGE],
+    (arrivals.forcing_more, "second"): [-1, -2, -HUGE],
+    (arrivals.forced_ticks, "many"): [0, -1, -HUGE, 11, 12, HUGE],
+    (arrivals.forced_ticks, "first"): [-1, -2, -HUGE],
+    (arrivals.forced_ticks, "second"): [-1, -2, -HUGE],
 }
 TRIPS = ("trip_begins", "trip_ticks")
-WRONG = {"marks": support.wrong_marks, "records": support.wrong_records, "mark": support.wrong_mark}
+WRONG = {
+    "marks": support.wrong_marks, "records": support.wrong_records, "mark": support.wrong_mark,
+    "record": support.wrong_record, "heads": support.wrong_heads, "rule": support.wrong_rule,
+    "arrivals": support.wrong_arrivals,
+}
 
 
 def wrong_values(function, parameter):

@@ -52,6 +52,38 @@ TRIPS = """
 >>> [fewest_ticks(4, three, mark) for mark in (1, 2)], best_begins(4, three), trip_count(2, [(0, 1)], 1), fewest_ticks(2, [(0, 1)], 1)
 ([6, 8], [1], 1, 2)
 """
+CHANGES = """
+>>> from ringreads.changes import added_rounds, cut_saves, gap_at, longest_length, saved_rounds
+>>> [longest_length(4, three, index) for index in range(3)], [gap_at(4, three, mark) for mark in (3, 1)]
+([2, 3, 3], [2, 0])
+>>> added_rounds(4, [(0, 4)], (3, 2)), added_rounds(4, three, (3, 2)), saved_rounds(4, three, 0), saved_rounds(2, apart, 1), cut_saves(2, apart, 0, 1)
+(2, 0, 0, 2, 1)
+"""
+RULES = """
+>>> from ringreads.rules import rule_ticks, rule_trip
+>>> [rule_trip(4, three, 0, rule) for rule in ("nearest", "listed", "brief")], [rule_ticks(4, three, 0, rule) for rule in ("nearest", "listed", "brief")]
+([[0, 2, 1], [0, 1, 2], [2, 0, 1]], [7, 11, 11])
+>>> [rule_ticks(4, [(0, 1), (0, 4)], 0, rule) for rule in ("shortest", "longest")]
+[8, 5]
+"""
+HEADS = """
+>>> from ringreads.heads import heads_run, heads_ticks, pieces_mark, pieces_ticks
+>>> [pieces_ticks(4, three, heads) for heads in ([0], [0, 2])], [pieces_mark(4, three, heads) for heads in ([0], [0, 2])], heads_run(4, three, [0, 2]), heads_ticks(4, three, [0, 2])
+([7, 4], [2, 1], [(0, 0), (1, 3), (1, 0)], 5)
+>>> from ringreads.heads import head_bounds, head_plan, shows_head_plan
+>>> head_bounds(4, three, 2), head_bounds(2, apart, 1), head_bounds(4, three, 1)
+((1, 1), (2, 4), (2, 2))
+>>> [shows_head_plan(4, three, 2, value) for value in [[[0, 2], [1]], [[0, 1], [2]], [[1], [0, 2]], [[0, 2, 1], []], head_plan(4, three, 2)]]
+[True, False, True, False, True]
+"""
+ARRIVALS = """
+>>> from ringreads.arrivals import arrival_bound, arrival_run, arrival_ticks
+>>> arrival_run(4, 0, late), arrival_ticks(4, 0, late), arrival_bound(4, 0, late)
+([0, 5, 10], 11, 7)
+>>> from ringreads.arrivals import forced_ticks, forcing_more, forcing_start
+>>> forcing_start(3, 2), forcing_more(3, 2, 1, 1), forcing_more(3, 2, 2, 0), forced_ticks(3, 2, 1, 1), forced_ticks(3, 2, 2, 0)
+([(0, 2, 0), (0, 2, 0), (1, 2, 0), (1, 2, 0)], [(0, 1, 6), (0, 1, 6)], [(2, 1, 6), (2, 1, 6)], (13, 12), (18, 12))
+"""
 
 
 def steps(text):
@@ -99,6 +131,18 @@ class ExamplesTest(unittest.TestCase):
 
     def test_trips(self):
         self.assertEqual(self.run_example(TRIPS), 2)
+
+    def test_changes(self):
+        self.assertEqual(self.run_example(CHANGES), 2)
+
+    def test_rules(self):
+        self.assertEqual(self.run_example(RULES), 2)
+
+    def test_heads(self):
+        self.assertEqual(self.run_example(HEADS), 3)
+
+    def test_arrivals(self):
+        self.assertEqual(self.run_example(ARRIVALS), 2)
 
 
 if __name__ == "__main__":
