@@ -198,6 +198,8 @@ class CutTest(RingTest):
             self.expect("InvalidNumber", {}, cut_saves, 4, [(0, 1), (1, 4)], 0, length)
         self.assertEqual(cut_saves(4, [(0, 1), (1, 4)], 1, 3), 0)
         self.expect("InvalidNumber", {}, cut_saves, 4, [(0, LONGEST)], 0, LONGEST)
+        for index in (-1, -2, 2, 10 ** 99, True, None):
+            self.expect("InvalidNumber", {}, cut_saves, 4, [(0, 4), (1, 4)], index, 2)
         self.expect("InvalidNumber", {}, cut_saves, 4, THREE, 3, 1)
         self.expect("InvalidNumber", {}, cut_saves, 4, THREE, 2, 1)
         self.expect("InvalidRecords", {"index": 0}, cut_saves, 4, [(0, 0)], 1, 1)

@@ -211,7 +211,7 @@ class PapersTest(RingTest):
             self.assertIs(shows_refusal(4, records, 6, ("split", value)), False, value)
             self.assertIs(shows_refusal(4, records, 4, ("split", value)), False, value)
         for value in [[], [0], [1], [2], [2, 0], [3, 1], [0, 2, 2], [0, 0, 2], [4, 4], [0, 1, 2, 3, 4], [0, 2, 5],
-                      [-1], [5], [-1, 0, 2], [4, 0, 2], (0, 2), (4,), [0, 2.0], [False, 2], [True, 3], ["4"], [[4]],
+                      [-1], [5], [-1, 4], [4, 5], [-1, 0, 2], [4, 0, 2], (0, 2), (4,), [0, 2.0], [False, 2], [True, 3], ["4"], [[4]],
                       [None], 4, "4", {"4": 4}, [0, 2, None], [4, None], [None, 4], [0, 1, 2, 3, 4, 5], [0, 3], [1, 2],
                       [10 ** 99], [-10 ** 99], [0, 2, 10 ** 99], [(4,)], [4] * 200]:
             self.assertIs(shows_refusal(4, records, 5, ("split", value)), False, value)
