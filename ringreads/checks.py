@@ -1,7 +1,7 @@
 """What the parameters of the functions must be, and the errors if they are not."""
 
 from ringreads.errors import InvalidArrivals, InvalidHeads, InvalidMark, InvalidMarks, InvalidNumber, InvalidOrder
-from ringreads.errors import InvalidRecord, InvalidRecords, InvalidRule, TooLarge
+from ringreads.errors import InvalidRecord, InvalidRecords, InvalidRule, InvalidWindows, TooLarge
 
 MOST_MARKS = 10 ** 30
 MOST_LENGTH = 10 ** 31
@@ -19,6 +19,11 @@ def is_integer(value):
 def is_between(value, least, most):
     """Whether any value is an integer from least to most."""
     return is_integer(value) and least <= value <= most
+
+
+def is_from(value, least):
+    """Whether any value is an integer from least on."""
+    return is_integer(value) and value >= least
 
 
 def is_list(value, least, most):
@@ -44,6 +49,14 @@ def is_arrival(marks, value):
     if type(value) != tuple or len(value) != 3:
         return False
     return is_record(marks, value[:2]) and is_between(value[2], 0, MOST_TICK)
+
+
+def is_window(marks, value):
+    """Whether any value is a window of the ring."""
+    if type(value) != tuple or len(value) != 3:
+        return False
+    mark, first, last = value
+    return is_mark(marks, mark) and is_between(first, 0, MOST_TICK) and is_between(last, first, MOST_TICK)
 
 
 def is_ascending(many, value):
@@ -111,6 +124,15 @@ def check_arrivals(marks, arrivals):
             raise InvalidArrivals(index)
 
 
+def check_windows(marks, windows):
+    """Raise InvalidWindows unless this is a list of windows of the ring."""
+    if not is_list(windows, 1, MOST_RECORDS):
+        raise InvalidWindows(None)
+    for index, window in enumerate(windows):
+        if not is_window(marks, window):
+            raise InvalidWindows(index)
+
+
 def check_integer(number):
     """Raise InvalidNumber unless this is an integer."""
     if not is_integer(number):
@@ -119,8 +141,7 @@ def check_integer(number):
 
 def check_least(number, least):
     """Raise InvalidNumber unless this is an integer from least on."""
-    check_integer(number)
-    if number < least:
+    if not is_from(number, least):
         raise InvalidNumber(f"the number must be an integer from {least} on")
 
 
@@ -130,9 +151,9 @@ def check_between(number, least, most):
         raise InvalidNumber(f"the number must be an integer from {least} to {most}")
 
 
-def check_few(records, most):
-    """Raise TooLarge if there are more records than most."""
-    if len(records) > most:
+def check_few(items, most):
+    """Raise TooLarge if there are more items than most."""
+    if len(items) > most:
         raise TooLarge(most)
 
 

@@ -15,6 +15,23 @@ def wait_between(marks, record, after):
     return (after[0] - end_of(marks, record)) % marks
 
 
+def begins_of(marks, records, mark, order):
+    """The list of the ticks at which a trip from a mark begins its records, in its sequence."""
+    begins = []
+    tick = 0
+    for index in order:
+        begin, length = records[index]
+        tick = first_pass(marks, mark, begin, tick)
+        begins.append(tick)
+        tick += length
+    return begins
+
+
+def end_tick(marks, records, mark, order):
+    """The tick at which a trip from a mark ends."""
+    return begins_of(marks, records, mark, order)[-1] + records[order[-1]][1]
+
+
 def is_lap(marks, records, value):
     """Whether any value is a lap: a list of all indices of the records, each once, 0 first."""
     check_ring(marks, records)
@@ -53,17 +70,12 @@ def trip_begins(marks, records, mark, order):
     check_ring(marks, records)
     check_mark(marks, mark)
     check_trip(records, order)
-    begins = []
-    tick = 0
-    for index in order:
-        begin, length = records[index]
-        tick = first_pass(marks, mark, begin, tick)
-        begins.append(tick)
-        tick += length
-    return begins
+    return begins_of(marks, records, mark, order)
 
 
 def trip_ticks(marks, records, mark, order):
     """The ticks of a trip from a mark: those until the end of its last record."""
-    begins = trip_begins(marks, records, mark, order)
-    return begins[-1] + records[order[-1]][1]
+    check_ring(marks, records)
+    check_mark(marks, mark)
+    check_trip(records, order)
+    return end_tick(marks, records, mark, order)

@@ -16,6 +16,12 @@ def nth_pass(marks, heads, mark, times):
     return rounds * marks + firsts[at]
 
 
+def passes_in(marks, heads, mark, first, last):
+    """How often heads pass a mark in the ticks first to last, all together."""
+    starts = [first_pass(marks, head, mark, first) for head in heads]
+    return sum([(last - start) // marks + 1 for start in starts if start <= last])
+
+
 def piece_ends(marks, records, heads):
     """The ascending tuples (mark, tick) of arcs and of when the last piece of each can end, the latest among them."""
     # From an arc to the next one the tick is one more, unless the cover changes there or a head is there at tick 0.
