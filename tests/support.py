@@ -2,6 +2,8 @@
 
 import unittest
 
+from ringreads.console import Console
+from ringreads.drums import Drum
 from ringreads.errors import InvalidRecords, RingError
 
 THREE = [(0, 2), (1, 2), (2, 1)]
@@ -9,25 +11,43 @@ APART = [(0, 2), (1, 2)]
 LATE = [(0, 2, 0), (1, 2, 0), (2, 1, 5)]
 
 HUGE = 10 ** 100 - 1
+DRUM = Drum(4, 0)
+CONSOLE = Console()
 NOT_NUMBERS = [
+    DRUM, CONSOLE,
     None, True, False, "", "0", "1", "4", "nearest", [], [1], [0, 1, 2], [[[[1]]]], (), (1,), (0, 2), ((0, 2),),
     {}, {"marks": 4}, {"0": [(0, 2)]}, [(0, 2), {"a": [None, True]}], [None] * 200, RingError("a"), InvalidRecords(0),
 ]
 NOT_LISTS = [
-    None, True, False, 0, 1, 4, -1, HUGE, -HUGE, "", "0+2", "abc", (), (0, 2), ((0, 2), (1, 2), (2, 1)), (0, 1, 2),
-    {}, {"0": (0, 2)}, {"a": 0, "b": 1, "c": 2}, ([0, 1, 2],), RingError("a"), InvalidRecords(0),
+    DRUM, CONSOLE, None, True, False, 0, 1, 4, -1, HUGE, -HUGE, "", "0+2", "abc", (), (0, 2),
+    ((0, 2), (1, 2), (2, 1)), (0, 1, 2), {}, {"0": (0, 2)}, {"a": 0, "b": 1, "c": 2}, ([0, 1, 2],),
+    RingError("a"), InvalidRecords(0),
 ]
 NO_RECORDS = [
     None, True, 0, 2, HUGE, "", "02", "0+2", [], [0, 2], (), (0,), (0, 1, 2), ((0, 2),), ((0, 2), (0, 2)), {}, {"0": 2},
     {"a": 0, "b": 2}, (None, 2), (0, None), (True, 2), (False, 2), (0, True), ("0", 2), (0, "2"), ([0], 2), (0, [2]),
     (0, (2,)), ({}, 2), (-1, 2), (4, 2), (HUGE, 2), (-HUGE, 2), (0, 0), (0, -1), (0, 10 ** 31 + 1), (0, HUGE),
     (0, -HUGE), [[[[]]]], (((0, 2), 0), 2), RingError("a"), (InvalidRecords(0), 2), (0, InvalidRecords(0)),
+    DRUM, (DRUM, 2), (0, DRUM), (0, CONSOLE),
 ]
 NO_ARRIVALS = [item for item in NO_RECORDS if item != (0, 1, 2)] + [
     (0, 2), [0, 2, 0], (0, 2, 0, 0), ((0, 2), 0), (0, (2, 0)), ((0, 2, 0),), (None, 2, 0), (0, None, 0), (0, 2, None),
     (True, 2, 0), (0, True, 0), (0, 2, True), (0, 2, False), ("0", 2, 0), (0, "2", 0), (0, 2, "0"), (-1, 2, 0),
     (4, 2, 0), (0, 0, 0), (0, -1, 0), (0, 2, -1), (0, 10 ** 31 + 1, 0), (0, 2, 10 ** 31 + 1), (HUGE, 2, 0),
     (0, HUGE, 0), (0, 2, HUGE), (0, 2, -HUGE), (0, 2, [0]), (0, 2, (0,)), (0, 2, {}), (0, 2, RingError("a")),
+]
+NO_WINDOWS = [item for item in NO_RECORDS if item != (0, 1, 2)] + [
+    (1, 3), [1, 0, 3], (1, 0, 3, 3), ((1, 0), 3), (1, (0, 3)), ((1, 0, 3),), (None, 0, 3), (1, None, 3), (1, 0, None),
+    (True, 0, 3), (1, True, 3), (1, False, 3), (1, 0, True), ("1", 0, 3), (1, "0", 3), (1, 0, "3"), (-1, 0, 3),
+    (4, 0, 3), (1, -1, 3), (1, -2, -1), (1, 3, 2), (1, 1, 0), (1, 10 ** 31 + 1, 10 ** 31 + 1), (1, 0, 10 ** 31 + 1),
+    (HUGE, 0, 3), (1, HUGE, HUGE), (1, 0, HUGE), (1, -HUGE, 3), (1, 0, -HUGE), (1, [0], 3), (1, 0, {}), (1, 0, DRUM),
+]
+NO_TEXTS = [value for value in NOT_LISTS + NOT_NUMBERS + NO_RECORDS if type(value) is not str]
+# No one of these words tells a number.
+NO_WORDS = [
+    "", "a", "x1", "1x", "-1", "+1", "--1", "00", "01", "007", "0x1", "1.0", "1e3", "1_0", "1,0", "1;", "(1)", "'1'",
+    "\t1", "1\n", "\n", "0" * 33, "1" + "0" * 32, "9" * 33, "9" * 200, "\u0661", "\u00b2", "\uff11", "\u0967",
+    "1\u0661", "None", "True", "nearest", "+", "++", "-",
 ]
 ANY_VALUES = NOT_NUMBERS + NOT_LISTS + NO_RECORDS + [2, 3, -1, HUGE, "mark", "split", ("mark",), ("split",)]
 
@@ -96,6 +116,43 @@ def wrong_arrivals():
         lists += [([item], 0), ([(0, 2, 0), item], 1), ([(3, 10 ** 31, 10 ** 31), (0, 1, 0), item, item], 2)]
         lists += [([(0, 2, 5)] * 29 + [item], 29)]
     return [(value, "InvalidArrivals", {"index": index}) for value, index in [(v, None) for v in NOT_LISTS] + lists]
+
+
+def wrong_windows():
+    """Values that are no windows of a ring of 4 marks, each with the error."""
+    lists = [([], None), ([(1, 0, 3)] * 31, None), ([None] * 200, None), ([[[[]]]], 0)]
+    for item in NO_WINDOWS:
+        lists += [([item], 0), ([(1, 0, 3), item], 1), ([(3, 10 ** 31, 10 ** 31), (0, 0, 0), item, item], 2)]
+        lists += [([(1, 0, 3)] * 29 + [item], 29)]
+    return [(value, "InvalidWindows", {"index": index}) for value, index in [(v, None) for v in NOT_LISTS] + lists]
+
+
+def wrong_records_text():
+    """Values that are no text of records of a ring of 4 marks, each with the error."""
+    texts = [("", 0), (" ", 0), ("  ", 0), ("0+2 ", 1), (" 0+2", 0), ("0+2  1+2", 1), ("0+2 1+2 ", 2), ("0+2\n1+2", 0)]
+    texts += [(" ".join(["0+2"] * 31), 30), (" ".join(["0+2"] * 40), 30), (" ".join(["0+2"] * 30 + ["x"]), 30)]
+    texts += [(" ".join(["0+2"] * 30) + " ", 30), ("0,2", 0), ("0+2,1+2", 0), ("[(0, 2)]", 0), ("0 + 2", 0), ("0 2", 0)]
+    wrong = [word + "+2" for word in NO_WORDS] + ["0+" + word for word in NO_WORDS] + NO_WORDS[1:] + [
+        "0", "2", "0+2+1", "0++2", "+0+2", "0+2+", "0-2", "0+-2", "4+1", "5+1", f"{10 ** 30}+1", f"{10 ** 31}+1", "0+0",
+        f"0+{10 ** 31 + 1}", f"0+{10 ** 32 - 1}", "0:2", "(0,2)",
+    ]
+    for word in wrong:
+        texts += [(word, 0), (word + " 0+2", 0), ("0+2 " + word, 1), ("3+1 0+2 " + word + " " + word + " 0+2", 2)]
+        texts += [(" ".join(["0+2"] * 29 + [word]), 29)]
+    # A word with a space is two words, and the empty one alone is none.
+    return [(value, "InvalidText", {"word": word}) for value, word in [(v, None) for v in NO_TEXTS] + texts]
+
+
+def wrong_trip_text():
+    """Values that are no text of a trip of three records, each with the error."""
+    texts = [("", 0), (" ", 0), ("  ", 0), ("0", 1), ("0 2", 2), ("1 0 ", 2), ("0 ", 1), (" 0 1 2", 0), ("0  1 2", 1)]
+    texts += [("0 1 2 ", 3), ("0 1 2 0", 3), ("0 1 2 3", 3), ("0 1 2 x", 3), ("0 1 2 3 4", 3), ("0 0 1", 1)]
+    texts += [("0 1 1", 2), ("1 1 1", 1), ("2 0 2", 2), ("0,1,2", 0), ("0 1,2", 1), ("[0, 1, 2]", 0), ("0+1 2", 0)]
+    texts += [("0 3", 1), ("2 2", 1)]
+    for word in NO_WORDS + ["3", "4", "30", str(10 ** 31), "9" * 32]:
+        texts += [(word + " 1 2", 0), ("0 " + word + " 1", 1), ("0 1 " + word, 2), ("2 " + word + " " + word, 1)]
+        texts += [(word, 0), ("2 1 0 " + word, 3)] if word else []
+    return [(value, "InvalidText", {"word": word}) for value, word in [(v, None) for v in NO_TEXTS] + texts]
 
 
 def wrong_number(integers):

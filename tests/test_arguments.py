@@ -5,7 +5,8 @@ import inspect
 import unittest
 from itertools import combinations
 
-from ringreads import arrivals, changes, counting, heads, orders, rings, rounds, rules, trips
+from ringreads import arrivals, changes, counting, far, heads, layouts, orders, rings, rounds, rules, small, texts
+from ringreads import trips, windows
 from tests import support
 from tests.support import APART, HUGE, LATE, THREE, RingTest
 
@@ -77,6 +78,30 @@ CALLS = [
     (arrivals.forcing_start, {"marks": 4, "many": 1}, [(0, 2, 0), (1, 2, 0)]),
     (arrivals.forcing_more, {"marks": 4, "many": 2, "first": 2, "second": 0}, [(2, 1, 8), (2, 1, 8)]),
     (arrivals.forced_ticks, {"marks": 3, "many": 2, "first": 2, "second": 0}, (18, 12)),
+    (layouts.layout_rounds, {"blocks": 9, "reckoning": 2}, 4),
+    (layouts.layout_ticks, {"blocks": 9, "reckoning": 2}, 27),
+    (layouts.place_of, {"blocks": 9, "reckoning": 2, "block": 3}, 1),
+    (layouts.block_at, {"blocks": 9, "reckoning": 2, "place": 5}, 7),
+    (far.begin_tick, {"marks": 4, "records": THREE, "order": [0, 2, 1], "number": 10, "index": 1}, 85),
+    (far.at_tick, {"marks": 4, "records": THREE, "order": [0, 2, 1], "tick": 7}, ("wait", 0, 1)),
+    (far.at_tick, {"marks": 4, "records": THREE, "order": [0, 2, 1], "tick": 2}, ("read", 2, 0)),
+    (windows.window_ticks, {"marks": 4, "heads": [0], "windows": [(1, 0, 3), (1, 0, 8)]}, [1, 5]),
+    (windows.window_ticks, {"marks": 4, "heads": [0], "windows": [(1, 0, 3), (1, 0, 4)]}, None),
+    (windows.shows_ticks, {"marks": 4, "heads": [0, 0], "windows": [(1, 0, 3), (1, 0, 4)], "value": [1, 1]}, True),
+    (windows.jam, {"marks": 4, "heads": [0], "windows": [(1, 1, 1), (1, 1, 1)]}, (1, 1, 1)),
+    (windows.jam, {"marks": 4, "heads": [0, 0], "windows": [(1, 0, 3), (1, 0, 4)]}, None),
+    (windows.shows_jam, {"marks": 4, "heads": [0], "windows": [(1, 0, 3), (1, 0, 4)], "value": (1, 0, 4)}, True),
+    (small.lap_table, {"marks": 4, "records": THREE}, [(2, 1), (3, 1)]),
+    (small.trip_table, {"marks": 4, "records": THREE, "mark": 0}, [(7, 2), (10, 2), (11, 2)]),
+    (small.most_kept, {"marks": 4, "records": THREE, "rounds": 1}, [0, 2]),
+    (small.most_kept, {"marks": 4, "records": THREE, "rounds": 2}, [0, 1, 2]),
+    (small.most_kept, {"marks": 4, "records": THREE, "rounds": 0}, []),
+    (small.whole_ticks, {"marks": 4, "records": THREE, "heads": [0, 2]}, 4),
+    (small.hindsight_ticks, {"marks": 4, "mark": 0, "arrivals": LATE}, 7),
+    (texts.format_records, {"marks": 4, "records": THREE}, "0+2 1+2 2+1"),
+    (texts.format_numbers, {"numbers": [0, 2, 1]}, "0 2 1"),
+    (texts.parse_records, {"marks": 4, "text": "0+2 1+2 2+1"}, THREE),
+    (texts.parse_trip, {"marks": 4, "records": THREE, "text": "1 0 2"}, [1, 0, 2]),
 ]
 SIGNATURES = {
     rings: {
@@ -119,6 +144,23 @@ SIGNATURES = {
         "arrival_bound": "marks, mark, arrivals", "forcing_start": "marks, many",
         "forcing_more": "marks, many, first, second", "forced_ticks": "marks, many, first, second",
     },
+    layouts: {
+        "layout_rounds": "blocks, reckoning", "layout_ticks": "blocks, reckoning",
+        "place_of": "blocks, reckoning, block", "block_at": "blocks, reckoning, place",
+    },
+    far: {"begin_tick": "marks, records, order, number, index", "at_tick": "marks, records, order, tick"},
+    windows: {
+        "window_ticks": "marks, heads, windows", "shows_ticks": "marks, heads, windows, value",
+        "jam": "marks, heads, windows", "shows_jam": "marks, heads, windows, value",
+    },
+    small: {
+        "lap_table": "marks, records", "trip_table": "marks, records, mark", "most_kept": "marks, records, rounds",
+        "whole_ticks": "marks, records, heads", "hindsight_ticks": "marks, mark, arrivals",
+    },
+    texts: {
+        "format_records": "marks, records", "format_numbers": "numbers", "parse_records": "marks, text",
+        "parse_trip": "marks, records, text",
+    },
 }
 # For each number of a call above integers that it cannot be there.
 NUMBERS = {
@@ -143,19 +185,32 @@ NUMBERS = {
     (arrivals.forced_ticks, "many"): [0, -1, -HUGE, 11, 12, HUGE],
     (arrivals.forced_ticks, "first"): [-1, -2, -HUGE],
     (arrivals.forced_ticks, "second"): [-1, -2, -HUGE],
+    (layouts.place_of, "block"): [-1, -9, -HUGE, 9, 10, 10 ** 30, HUGE],
+    (layouts.block_at, "place"): [-1, -9, -HUGE, 9, 10, 10 ** 30, HUGE],
+    (far.begin_tick, "number"): [-1, -HUGE, 10 ** 30 + 1, 10 ** 31, HUGE],
+    (far.begin_tick, "index"): [-1, -HUGE, 3, 4, HUGE],
+    (far.at_tick, "tick"): [-1, -HUGE, 10 ** 64, 10 ** 65, HUGE],
+    (small.most_kept, "rounds"): [-1, -2, -HUGE],
 }
+for layout in (layouts.layout_rounds, layouts.layout_ticks, layouts.place_of, layouts.block_at):
+    NUMBERS[layout, "blocks"] = [0, -1, -9, -HUGE, 10 ** 30 + 1, 10 ** 31, HUGE]
+    NUMBERS[layout, "reckoning"] = [-1, -2, -HUGE, 10 ** 30 + 1, 10 ** 31, HUGE]
 TRIPS = ("trip_begins", "trip_ticks")
 WRONG = {
     "marks": support.wrong_marks, "records": support.wrong_records, "mark": support.wrong_mark,
     "record": support.wrong_record, "heads": support.wrong_heads, "rule": support.wrong_rule,
-    "arrivals": support.wrong_arrivals,
+    "arrivals": support.wrong_arrivals, "windows": support.wrong_windows,
 }
+# Of these parameters no value is wrong, or only right ones are passed.
+FREE = ("value", "numbers")
 
 
 def wrong_values(function, parameter):
     """The wrong values of a parameter, each with the name and the fields of its error."""
-    if parameter == "value":
+    if parameter in FREE:
         return []
+    if parameter == "text":
+        return support.wrong_trip_text() if function == texts.parse_trip else support.wrong_records_text()
     if parameter == "order":
         return support.wrong_trip() if function.__name__ in TRIPS else support.wrong_lap()
     if parameter in WRONG:
@@ -247,10 +302,10 @@ class WrongValuesTest(RingTest):
                         self.expect(name, fields, function, **passed)
                         self.expect(name, fields, function, *passed.values())
 
-    def test_every_parameter_but_value_has_wrong_values(self):
+    def test_every_parameter_but_the_free_ones_has_wrong_values(self):
         for function, arguments in first_calls():
             for parameter in arguments:
-                self.assertEqual(wrong_values(function, parameter) == [], parameter == "value", parameter)
+                self.assertEqual(wrong_values(function, parameter) == [], parameter in FREE, parameter)
 
     def test_the_error_of_the_first_wrong_parameter(self):
         for function, arguments in first_calls():
@@ -263,7 +318,8 @@ class WrongValuesTest(RingTest):
 
     def test_all_parameters_wrong(self):
         for function, arguments in first_calls():
-            for value, name, fields in support.wrong_marks():
+            first = list(arguments)[0]
+            for value, name, fields in [] if first in FREE else wrong_values(function, first):
                 self.expect(name, fields, function, **{**arguments, **dict.fromkeys(arguments, value)})
 
     def test_any_value_beside_wrong_parameters(self):

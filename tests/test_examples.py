@@ -84,6 +84,66 @@ ARRIVALS = """
 >>> forcing_start(3, 2), forcing_more(3, 2, 1, 1), forcing_more(3, 2, 2, 0), forced_ticks(3, 2, 1, 1), forced_ticks(3, 2, 2, 0)
 ([(0, 2, 0), (0, 2, 0), (1, 2, 0), (1, 2, 0)], [(0, 1, 6), (0, 1, 6)], [(2, 1, 6), (2, 1, 6)], (13, 12), (18, 12))
 """
+LAYOUTS = """
+>>> from ringreads.layouts import block_at, layout_rounds, layout_ticks, place_of
+>>> [layout_rounds(blocks, 2) for blocks in (8, 9)], [layout_ticks(blocks, 2) for blocks in (8, 9)], [place_of(9, 2, block) for block in range(9)], block_at(9, 2, 5)
+([3, 4], [22, 27], [0, 3, 6, 1, 4, 7, 2, 5, 8], 7)
+>>> place_of(10 ** 30, 2, 10 ** 29) == 3 * 10 ** 29, layout_rounds(10 ** 30, 10 ** 30 - 1) == 10 ** 30 + 1
+(True, True)
+"""
+FAR = """
+>>> from ringreads.far import at_tick, begin_tick
+>>> begin_tick(4, three, [0, 2, 1], 10, 1), [at_tick(4, three, [0, 2, 1], tick) for tick in (2, 4, 7)], at_tick(4, three, [0, 2, 1], 8 * 10 ** 30) == ("read", 0, 10 ** 30)
+(85, [('read', 2, 0), ('wait', 1, 0), ('wait', 0, 1)], True)
+"""
+WINDOWS = """
+>>> from ringreads.windows import jam, shows_jam, shows_ticks, window_ticks
+>>> window_ticks(4, [0], [(1, 0, 3), (1, 0, 8)]), window_ticks(4, [0], [(1, 0, 3), (1, 0, 4)]), jam(4, [0, 0], [(1, 0, 3), (1, 0, 4)])
+([1, 5], None, None)
+>>> [shows_jam(4, [0], [(1, 0, 3), (1, 0, 4)], value) for value in [(1, 0, 4), (1, 0, 3), (1, 1, 4)]], shows_ticks(4, [0, 0], [(1, 0, 3), (1, 0, 4)], [1, 1])
+([True, False, False], True)
+"""
+SMALL = """
+>>> from ringreads.small import hindsight_ticks, lap_table, most_kept, trip_table, whole_ticks
+>>> lap_table(4, three), trip_table(4, three, 0), most_kept(2, apart, 2), most_kept(4, three, 1), whole_ticks(4, three, [0, 2]), hindsight_ticks(4, 0, late)
+([(2, 1), (3, 1)], [(7, 2), (10, 2), (11, 2)], [0], [0, 2], 4, 7)
+"""
+DRUMS = """
+>>> from ringreads.drums import BudgetDrum, CountingDrum, Drum, ListedDrum
+>>> drum = Drum(4, 0)
+>>> [drum.add(0, 2), drum.add(1, 2), drum.waiting, drum.go(1), drum.reading, drum.add(2, 1), drum.go(4), drum.done, drum.mark]
+[0, 1, [0, 1], [], 0, 2, [0, 2], [0, 2], 1]
+>>> [drum.go(3), drum.tick, drum.begin_of(1), drum.undo(), drum.waiting, drum.described(), len(drum), drum == drum.twin()]
+[[1], 8, 5, None, [1], ['tick 5', 'waiting 1', 'done 2'], 3, True]
+>>> listed, counting = ListedDrum(4, 0), CountingDrum(4, 0)
+>>> [listed.add(1, 1), listed.add(0, 1), listed.go(4), listed.begin_of(1), counting.add(1, 2), counting.go(5), counting.idle, counting.described()[3]]
+[0, 1, [0], None, 0, [0], 3, 'idle 3']
+>>> short = BudgetDrum(4, 0, 1)
+>>> short.add(0, 1)
+0
+>>> short.add(0, 1)
+raises Refused(count=1)
+"""
+TEXTS = """
+>>> from ringreads.texts import format_numbers, format_records, parse_records, parse_trip
+>>> [format_records(4, three), format_numbers([0, 2, 1]), format_numbers([]), parse_records(4, "0+2 1+2 2+1") == three, parse_trip(4, three, "1 0 2")]
+['0+2 1+2 2+1', '0 2 1', '', True, [1, 0, 2]]
+>>> parse_records(4, "0+2 4+1")
+raises InvalidText(word=1)
+>>> from ringreads.texts import parse_trip
+>>> parse_trip(4, three, "0 2")
+raises InvalidText(word=2)
+"""
+CONSOLE = """
+>>> from ringreads.console import Console
+>>> console = Console()
+>>> [console.execute(command) for command in ["rounds", "ring 4", "records 0+2 1+2 2+1", "rounds", "lap", "laps", "parts", "ticks", "trip", "trips"]]
+['1', 'ok', 'ok', '2', '0 2 1', '1', '1', '7', '0 2 1', '2']
+>>> [console.execute(command) for command in ["rule listed", "late listed", "late nearest", "mark 3", "gap", "add 3+3", "pieces 0 2"]]
+['0 1 2', '4', '0', 'ok', '2', '1', '4']
+>>> console.execute("records 0+2 4+1")
+raises InvalidRecords(index=1)
+"""
 
 
 def steps(text):
@@ -143,6 +203,27 @@ class ExamplesTest(unittest.TestCase):
 
     def test_arrivals(self):
         self.assertEqual(self.run_example(ARRIVALS), 2)
+
+    def test_layouts(self):
+        self.assertEqual(self.run_example(LAYOUTS), 2)
+
+    def test_far(self):
+        self.assertEqual(self.run_example(FAR), 1)
+
+    def test_windows(self):
+        self.assertEqual(self.run_example(WINDOWS), 2)
+
+    def test_small(self):
+        self.assertEqual(self.run_example(SMALL), 1)
+
+    def test_drums(self):
+        self.assertEqual(self.run_example(DRUMS), 5)
+
+    def test_texts(self):
+        self.assertEqual(self.run_example(TEXTS), 3)
+
+    def test_console(self):
+        self.assertEqual(self.run_example(CONSOLE), 3)
 
 
 if __name__ == "__main__":

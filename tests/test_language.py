@@ -22,14 +22,18 @@ BUILTINS = (
 METHODS = (
     "append clear copy count endswith extend find get index insert isalnum isalpha isdigit islower isspace isupper "
     "items join keys ljust lower lstrip partition pop remove replace reverse rfind rjust rpartition rsplit rstrip "
-    "setdefault split splitlines startswith strip update upper values zfill bit_length __init__"
+    "setdefault split splitlines startswith strip update upper values zfill bit_length isascii __init__"
 ).split()
 WORDS = (
     "typing typing_extensions enum Enum IntEnum StrEnum Flag IntFlag Generic Protocol ABC ABCMeta namedtuple "
     "NamedTuple TypedDict TYPE_CHECKING abstractmethod dataclass overload contextmanager register mro elements open "
     "input law version_info"
 ).split()
-LIBRARY = {"math": "gcd lcm isqrt comb perm factorial".split()}
+LIBRARY = {
+    "math": "gcd lcm isqrt comb perm factorial".split(), "itertools": "product combinations permutations".split(),
+}
+DOUBLE = ("__init__", "__eq__", "__len__")
+KINDS = r"\btype\(\w+\) (?:[!=]= \w+|is type\(\w+\))"
 PLAIN = (ast.Constant, ast.Tuple, ast.List, ast.Dict, ast.BinOp, ast.UnaryOp)
 
 
@@ -73,6 +77,10 @@ class LanguageTest(unittest.TestCase):
             for node in ast.walk(tree):
                 if isinstance(node, kinds):
                     yield f"{path}:{getattr(node, 'lineno', 0)}", node
+
+    def methods(self):
+        bodies = [top.body for _, top in self.nodes(ast.ClassDef)]
+        return [node for body in bodies for node in body if isinstance(node, ast.FunctionDef)]
 
     def test_l1_l14_files(self):
         self.assertIn("ringreads/__init__.py", self.texts)
@@ -130,6 +138,9 @@ class LanguageTest(unittest.TestCase):
             calls = [use for use in ast.walk(tree) if isinstance(use, ast.Call) and use.func in named]
             self.assertEqual(len(named), len(calls), path)
             self.assertFalse([use for use in calls if use.keywords], path)
+            if node.module == "itertools":
+                loops = [loop.iter for loop in ast.walk(tree) if isinstance(loop, (ast.For, ast.comprehension))]
+                self.assertEqual([use for use in calls if use not in loops], [], path)
 
     def test_l3_module_level(self):
         for path, tree in self.trees.items():
@@ -147,8 +158,12 @@ class LanguageTest(unittest.TestCase):
             self.fail(f"{place}: {type(node).__name__}")
 
     def test_l4_l5_decorators_and_default_values(self):
+        methods = self.methods()
         for place, node in self.nodes(ast.FunctionDef, ast.ClassDef):
-            self.assertEqual(node.decorator_list, [], place)
+            decorators = [ast.unparse(decorator) for decorator in node.decorator_list]
+            self.assertIn(decorators, [[], ["property"]] if node in methods else [[]], place)
+            if decorators:
+                self.assertEqual(ast.unparse(node.args), "self", place)
         for place, node in self.nodes(ast.arguments):
             self.assertEqual(node.defaults + node.kw_defaults + node.kwonlyargs + node.posonlyargs, [], place)
 
@@ -163,7 +178,9 @@ class LanguageTest(unittest.TestCase):
 
     def test_l8_builtins(self):
         for path, tree in self.trees.items():
-            known = set(bound(tree)) | set(BUILTINS)
+            known = set(bound(tree)) | set(BUILTINS) | {
+                decorator.id for node in ast.walk(tree) if isinstance(node, ast.FunctionDef)
+                for decorator in node.decorator_list}
             for node in ast.walk(tree):
                 if isinstance(node, ast.ImportFrom):
                     known.update(alias.name for alias in node.names)
@@ -195,7 +212,7 @@ class LanguageTest(unittest.TestCase):
             code = ast.unparse(self.without_docstrings(text))
             for word in re.findall(r"\w+", code):
                 self.assertNotIn(word, WORDS, path)
-            self.assertEqual(len(re.findall(r"\btype\b", code)), len(re.findall(r"\btype\(\w+\) [!=]= \w+", code)), path)
+            self.assertNotRegex(re.sub(KINDS, "", code), r"\btype\b", path)
 
     def without_docstrings(self, text):
         tree = ast.parse(text)
@@ -206,7 +223,7 @@ class LanguageTest(unittest.TestCase):
     def test_l20_is(self):
         for place, node in self.nodes(ast.Compare):
             for sign, right in zip(node.ops, node.comparators):
-                if isinstance(sign, (ast.Is, ast.IsNot)):
+                if isinstance(sign, (ast.Is, ast.IsNot)) and not re.fullmatch(KINDS, ast.unparse(node)):
                     self.assertIsInstance(right, ast.Constant, place)
 
     def test_l21_annotations(self):
@@ -217,14 +234,38 @@ class LanguageTest(unittest.TestCase):
 
     def test_l19_l25_calls(self):
         classes = [node.name for _, node in self.nodes(ast.ClassDef)]
+        own = {node.name for node in self.methods()}
         for place, node in self.nodes(ast.Call):
             if isinstance(node.func, ast.Attribute):
-                self.assertIn(node.func.attr, METHODS, place)
+                self.assertIn(node.func.attr, {*METHODS, *own}, place)
             else:
                 self.assertIsInstance(node.func, ast.Name, place)
         for place, node in self.nodes(ast.Raise):
             self.assertIsInstance(node.exc, ast.Call, place)
             self.assertIn(node.exc.func.id, classes, place)
+
+    def test_l5_l18_l26_l28_classes(self):
+        methods, properties, attributes = set(), set(), set()
+        for place, top in self.nodes(ast.ClassDef):
+            functions = [node for node in top.body if isinstance(node, ast.FunctionDef)]
+            self.assertEqual(len(functions), len({node.name for node in functions}), place)
+            # Only the docstring stands beside the methods.
+            self.assertLessEqual(len(top.body) - len(functions), 1, place)
+            for node in functions:
+                (properties if node.decorator_list else methods).add(node.name)
+                if node.name.startswith("__"):
+                    self.assertIn(node.name, DOUBLE, place)
+                if node.name == "__len__":
+                    self.assertRegex(ast.unparse(node.body[-1]), r"^return len\(.*\)$", place)
+        for place, node in self.nodes(ast.Attribute):
+            if isinstance(node.ctx, ast.Store):
+                self.assertIsInstance(node.value, ast.Name, place)
+                attributes.add(node.attr)
+        self.assertFalse(methods & properties | methods & attributes | properties & attributes)
+        for name in (methods | properties | attributes) - {"add", *DOUBLE}:
+            self.assertRegex(name, r"^(?!_record[0-9_]*$)_?[a-z][a-z_]*$")
+            if name not in attributes or name not in ("index", "count"):
+                self.assertNotIn(name, METHODS)
 
     def test_l24_sets(self):
         for path, text in self.texts.items():
